@@ -1,0 +1,1 @@
+"""Bouncewise: flights in rooms of whole corners."""
