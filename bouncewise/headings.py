@@ -39,3 +39,15 @@ def mirrored(heading, line):
 
 def opposite(heading):
     return (-heading[0], -heading[1])
+
+
+# Alike for all points of one straight line along the line, unlike for those of two: so it tells such straight lines
+# apart. Of a heading's two numbers it is how much this grows in one unit of time.
+def across(line, x, y):
+    if line == 0:
+        return y
+    if line == 1:
+        return y - x
+    if line == 2:
+        return x
+    return x + y

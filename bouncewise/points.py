@@ -20,6 +20,10 @@ def point_of(x, y, w):
     return (x // share, y // share, w // share)
 
 
+def as_point(whole):
+    return (whole[0], whole[1], 1)
+
+
 def time_of(top, bottom):
     if bottom == 0:
         raise NoPoint("the bottom of a time is 0")

@@ -4,7 +4,7 @@ import unittest
 from math import gcd
 
 from bouncewise.errors import NoWay
-from bouncewise.headings import heading_of, line_of, mirrored, opposite
+from bouncewise.headings import across, heading_of, line_of, mirrored, opposite
 from checks import GREAT, check_arguments, check_refused, check_whole_numbers
 
 # Each line with the two headings along it.
@@ -130,6 +130,19 @@ class OppositeTest(unittest.TestCase):
         for heading in all_headings():
             self.assertEqual(opposite(heading), mirrored(mirrored(heading, 0), 2))
             self.assertEqual(opposite(heading), mirrored(mirrored(heading, 1), 3))
+
+
+class AcrossTest(unittest.TestCase):
+    def test_it_stays_along_the_line_and_changes_off_it(self):
+        for line, two in ALONG.items():
+            for a, b in all_headings():
+                with self.subTest(line=line, heading=(a, b)):
+                    stays = across(line, 3 + 7 * a, -5 + 7 * b) == across(line, 3, -5)
+                    self.assertEqual(stays, (a, b) in two)
+
+    def test_it_is_the_number_by_which_point_10_writes_the_straight_line(self):
+        for line, told in ((0, 5), (1, 3), (2, 2), (3, 7)):
+            self.assertEqual(across(line, 2, 5), told)
 
 
 if __name__ == "__main__":

@@ -5,7 +5,7 @@ from fractions import Fraction
 from math import gcd
 
 from bouncewise.errors import NoPoint
-from bouncewise.points import added, divisor, point_of, sooner, spot_at, time_of
+from bouncewise.points import added, as_point, divisor, point_of, sooner, spot_at, time_of
 from checks import GREAT, check_arguments, check_refused, check_whole_numbers
 
 SMALL = range(-6, 7)
@@ -127,6 +127,10 @@ class PointTest(unittest.TestCase):
         self.assertEqual(gcd(*point), 1)
         self.assertEqual(Fraction(point[0], point[2]), Fraction(x, w))
         self.assertEqual(Fraction(point[1], point[2]), Fraction(y, w))
+
+    def test_a_whole_point_as_a_point(self):
+        for x, y in ((0, 0), (3, -4), (-1000, 1000), (GREAT, -GREAT)):
+            self.assertEqual(as_point((x, y)), (x, y, 1))
 
     def test_third_of_nought_is_refused(self):
         for x, y in ((0, 0), (1, 2), (-1, 0), (0, 5), (GREAT, -GREAT)):
