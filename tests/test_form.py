@@ -39,6 +39,7 @@ KEYWORDS = {
 }
 WALKED_AT_ONCE = {"zip", "enumerate", "reversed", "range", "items", "keys", "values"}
 WALKERS = {"list", "tuple", "dict", "sorted", "sum", "any", "all", "enumerate", "zip", "min", "max", "join"}
+CHANGES = set("append clear extend insert pop remove reverse setdefault update".split())
 METHODS_WITH_TWO_UNDERSCORES = {"__init__", "__eq__", "__repr__", "__str__", "__len__"}
 WORDS_NOT_USED = re.compile(
     r"\b(type|typing|typing_extensions|enum|Enum|IntEnum|StrEnum|Flag|IntFlag|Generic|Protocol|ABC|ABCMeta"
@@ -93,6 +94,21 @@ def called(node):
     return node.func.id if isinstance(node.func, ast.Name) else node.func.attr
 
 
+def walked_by(loop):
+    if not isinstance(loop.iter, ast.Call):
+        return {ast.unparse(loop.iter)}
+    method = isinstance(loop.iter.func, ast.Attribute)
+    return {ast.unparse(part) for part in loop.iter.args + ([loop.iter.func.value] if method else [])}
+
+
+def changed_by(node):
+    if isinstance(node, ast.Subscript) and isinstance(node.ctx, ast.Store):
+        return ast.unparse(node.value)
+    if called(node) in CHANGES and isinstance(node.func, ast.Attribute):
+        return ast.unparse(node.func.value)
+    return None
+
+
 def drawn_from():
     return {
         name.removesuffix(".py"): {node.module.split(".")[1] for node in tree.body if isinstance(node, ast.ImportFrom)}
@@ -113,7 +129,8 @@ def is_plain(node):
 class FilesTest(unittest.TestCase):
     def test_the_files_of_the_interface_are_there(self):
         names = [path.name for path in files()]
-        for name in ("__init__", "errors", "points", "headings", "walls", "rooms", "texts", "meets"):
+        for name in ("__init__", "errors", "points", "headings", "walls", "rooms", "texts", "meets", "flights",
+                     "pictures", "light", "papers"):
             self.assertIn(f"{name}.py", names)
 
     def test_plain_file_names(self):
@@ -398,6 +415,12 @@ class CallsTest(unittest.TestCase):
             for node in ast.walk(tree):
                 if called(node) in WALKED_AT_ONCE:
                     self.assertIn(id(node), allowed, f"{name}:{node.lineno}")
+
+    def test_l23_what_a_loop_walks_is_not_changed_in_it(self):
+        for where, loop in nodes(ast.For):
+            for row in loop.body:
+                for node in ast.walk(row):
+                    self.assertNotIn(changed_by(node), walked_by(loop), where)
 
     def test_l25_methods_are_own_ones_or_listed(self):
         allowed = METHODS_OF_PYTHONS_OWN | own_methods()

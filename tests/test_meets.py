@@ -6,7 +6,9 @@ from fractions import Fraction
 from bouncewise.meets import first_met, time_to
 from bouncewise.rooms import Room
 from bouncewise.walls import Door, Glass, Hole, Mirror
-from checks import ENDS, GREAT, check_arguments, check_whole_numbers, place, point_at
+from checks import (
+    ENDS, GREAT, check_arguments, check_whole_numbers, first_reckoned, point_at, time_reckoned, told_of,
+)
 
 KINDS = (Mirror, Glass, Hole, Door)
 SMALL_HEADINGS = ((1, 0), (-1, 0), (0, 1), (0, -1), (1, 1), (-1, -1), (1, -1), (-1, 1), (2, 1), (-1, 2), (3, -2), (-5, -3))
@@ -14,27 +16,6 @@ SMALL_POINTS = [
     point_at(Fraction(x, w), Fraction(y, w)) for w in (1, 2, 3) for x in range(-2 * w, 4 * w + 1)
     for y in range(-2 * w, 5 * w + 1) if w == 1 or (x + y) % 3 == 1
 ]
-
-
-# By the wall's two numbers as shares: P + t * heading = one + s * (two - one), s from 0 to 1.
-def time_reckoned(wall, P, heading):
-    x, y = place(P)
-    (left, low), (a, b) = wall.one, heading
-    right, up = wall.two[0] - left, wall.two[1] - low
-    turn = b * right - a * up
-    if turn == 0:
-        if right * (y - low) != up * (x - left):
-            return None
-        far = a * a + b * b
-        ends = [((end[0] - x) * a + (end[1] - y) * b) / far for end in (wall.one, wall.two)]
-        return min([t for t in ends if t > 0], default=None)
-    t = ((low - y) * right - (left - x) * up) / turn
-    s = ((low - y) * a - (left - x) * b) / turn
-    return t if t > 0 and 0 <= s <= 1 else None
-
-
-def told_of(t):
-    return None if t is None else (t.numerator, t.denominator)
 
 
 class InterfaceTest(unittest.TestCase):
@@ -224,16 +205,8 @@ class FirstTest(unittest.TestCase):
         room = Room(walls)
         for P in SMALL_POINTS:
             for heading in SMALL_HEADINGS:
-                times = [time_reckoned(wall, P, heading) for wall in walls]
-                least = min([t for t in times if t is not None], default=None)
-                self.check(room, P, heading, self.told(walls, P, heading, least))
-
-    def told(self, walls, P, heading, least):
-        if least is None:
-            return None
-        x, y = place(P)
-        point = point_at(x + heading[0] * least, y + heading[1] * least)
-        return told_of(least), point, [number for number, wall in enumerate(walls) if wall.holds(point)]
+                met = first_reckoned(walls, P, heading)
+                self.check(room, P, heading, None if met is None else (told_of(met[0]), met[1], met[2]))
 
 
 class ListsTest(unittest.TestCase):
