@@ -4,7 +4,7 @@ from bouncewise.flights import Flight, check_off_walls
 from bouncewise.headings import heading_of
 from bouncewise.light import rows_of
 from bouncewise.pictures import picture, turners
-from bouncewise.points import added, divisor, sooner, spot_at, time_of
+from bouncewise.points import divisor, sooner, spot_at, time_between, time_of
 
 
 # The heading that leads from P to another point R, and the time at which it comes there.
@@ -46,8 +46,7 @@ def spot_behind(P, heading, hits, T):
     if len(hits) == 0:
         return spot_at(P, heading, T)
     last = hits[-1]
-    rest = added(T, (-last[1][0], last[1][1]))
-    return spot_at(last[2], last[3], rest)
+    return spot_at(last[2], last[3], time_between(last[1], T))
 
 
 def flown_paper(room, P, Q, row, R):

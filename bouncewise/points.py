@@ -45,6 +45,11 @@ def added(one, other):
     return time_of(one[0] * other[1] + other[0] * one[1], one[1] * other[1])
 
 
+# From the one to the other.
+def time_between(one, other):
+    return added(other, (-one[0], one[1]))
+
+
 def spot_at(P, heading, t):
     top = t[0] * P[2]
     bottom = t[1]

@@ -16,7 +16,14 @@ GREAT = 10 ** 120 - 1
 ENDS = {0: ((-1, 2), (4, 2)), 1: ((-2, 1), (2, 5)), 2: ((3, -2), (3, 1)), 3: ((-1, 5), (3, 1))}
 
 
-BOX = Room([Mirror((0, 0), (4, 0)), Mirror((0, 0), (0, 3)), Mirror((0, 3), (4, 3)), Mirror((4, 0), (4, 3))])
+def box_of(wide, high):
+    return Room([
+        Mirror((0, 0), (wide, 0)), Mirror((0, 0), (0, high)), Mirror((0, high), (wide, high)),
+        Mirror((wide, 0), (wide, high)),
+    ])
+
+
+BOX = box_of(4, 3)
 
 # From (1, 1) with heading (1, 1), in BOX: five hits, then a corner.
 FIVE = [
@@ -128,6 +135,15 @@ def flight_reckoned(walls, P, heading, most):
             a, b = way_mirrored(wall, *heading)
             heading = int(a), int(b)
         hits.append((number, told_of(past), P, heading))
+
+
+# Where it is at time T who flies on from the last of these hits, or from the begin.
+def standing_at(begin, heading, hits, T):
+    point, since = begin, Fraction(0)
+    if hits:
+        point, heading, since = hits[-1][2], hits[-1][3], Fraction(*hits[-1][1])
+    x, y = place(point)
+    return point_at(x + heading[0] * (T - since), y + heading[1] * (T - since))
 
 
 def all_refusals():

@@ -9,7 +9,7 @@ from bouncewise.flights import Flight, flown
 from bouncewise.rooms import Room
 from bouncewise.walls import Door, Glass, Hole, Mirror
 from checks import (
-    BEHIND_FIVE, BOX, ENDS, FIVE, GREAT, ROOMS, check_arguments, check_hits, check_on_wall, check_refused,
+    BEHIND_FIVE, BOX, ENDS, FIVE, GREAT, ROOMS, box_of, check_arguments, check_hits, check_on_wall, check_refused,
     check_whole_numbers, flight_reckoned, lies_on, place, point_at, told_of,
 )
 
@@ -55,13 +55,6 @@ def turned_times(begin, speed, side, most):
     if speed > 0:
         return {(k * side - begin) / speed for k in range(1, most + 1)}
     return set() if speed == 0 else {(-k * side - begin) / speed for k in range(most)}
-
-
-def box_of(wide, high):
-    return Room([
-        Mirror((0, 0), (wide, 0)), Mirror((0, 0), (0, high)), Mirror((0, high), (wide, high)),
-        Mirror((wide, 0), (wide, high)),
-    ])
 
 
 def stepped(flight, times):

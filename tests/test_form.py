@@ -39,6 +39,7 @@ KEYWORDS = {
 }
 WALKED_AT_ONCE = {"zip", "enumerate", "reversed", "range", "items", "keys", "values"}
 WALKERS = {"list", "tuple", "dict", "sorted", "sum", "any", "all", "enumerate", "zip", "min", "max", "join"}
+READERS = set("len list tuple dict sorted sum any all min max get items keys values".split())
 CHANGES = set("append clear extend insert pop remove reverse setdefault update".split())
 METHODS_WITH_TWO_UNDERSCORES = {"__init__", "__eq__", "__repr__", "__str__", "__len__"}
 WORDS_NOT_USED = re.compile(
@@ -109,6 +110,19 @@ def changed_by(node):
     return None
 
 
+# What is an index's, a walk's, a comparison's or a reading call's own, and not handed on.
+def read_by(node):
+    if isinstance(node, ast.Subscript) and isinstance(node.ctx, ast.Load):
+        return [node.value]
+    if isinstance(node, (ast.For, ast.comprehension)):
+        return [node.iter]
+    if isinstance(node, ast.Compare) and isinstance(node.ops[0], (ast.In, ast.NotIn, ast.Eq, ast.NotEq)):
+        return node.comparators
+    if called(node) in READERS:
+        return node.args + ([node.func.value] if isinstance(node.func, ast.Attribute) else [])
+    return []
+
+
 def drawn_from():
     return {
         name.removesuffix(".py"): {node.module.split(".")[1] for node in tree.body if isinstance(node, ast.ImportFrom)}
@@ -130,7 +144,7 @@ class FilesTest(unittest.TestCase):
     def test_the_files_of_the_interface_are_there(self):
         names = [path.name for path in files()]
         for name in ("__init__", "errors", "points", "headings", "walls", "rooms", "texts", "meets", "flights",
-                     "pictures", "light", "papers"):
+                     "pictures", "light", "papers", "rounds", "boxes", "drawings", "desk"):
             self.assertIn(f"{name}.py", names)
 
     def test_plain_file_names(self):
@@ -258,6 +272,15 @@ class TopTest(unittest.TestCase):
                 inner = [part for part in names_bound(node) if part != node.name]
                 self.assertEqual(taken & set(inner), set(), f"{name}:{node.lineno}")
 
+    def test_l15_a_list_or_dict_of_the_top_is_only_read(self):
+        for name, tree in trees():
+            kept = {node.targets[0].id for node in tree.body
+                    if isinstance(node, ast.Assign) and isinstance(node.value, (ast.List, ast.Dict))}
+            read = {id(part) for node in ast.walk(tree) for part in read_by(node)}
+            for node in ast.walk(tree):
+                if isinstance(node, ast.Name) and node.id in kept and isinstance(node.ctx, ast.Load):
+                    self.assertIn(id(node), read, f"{name}:{node.lineno}")
+
     def names_at_the_top(self, tree):
         bound = []
         for node in tree.body:
@@ -330,6 +353,13 @@ class PartsTest(unittest.TestCase):
         for where, node in nodes(ast.Constant):
             if isinstance(node.value, str):
                 self.assertNotIn("%", node.value, where)
+        for path in files():
+            for sign in re.findall(r"\\(.)", path.read_text(encoding="ascii"), re.DOTALL):
+                self.assertIn(sign, "nt\\'\"", path.name)
+
+    def test_l13_no_two_lambdas_on_one_line(self):
+        lines = [where for where, node in nodes(ast.Lambda)]
+        self.assertEqual(len(lines), len(set(lines)))
 
 
 class ErrorsTest(unittest.TestCase):

@@ -12,7 +12,7 @@ from bouncewise.rooms import Room
 from bouncewise.walls import Door, Glass, Hole, Mirror
 from checks import (
     BOX, FIVE, GREAT, ROOMS, check_arguments, check_hits, check_on_wall, check_refused, check_whole_numbers,
-    flight_reckoned, picture_reckoned, place, point_at,
+    flight_reckoned, picture_reckoned, place, point_at, standing_at,
 )
 
 P = (1, 1, 1)
@@ -30,15 +30,6 @@ def way_reckoned(begin, R):
     (x, y), (right, up) = place(begin), place(R)
     a, b, w = point_at(right - x, up - y)
     return (a // gcd(a, b), b // gcd(a, b)), Fraction(gcd(a, b), w)
-
-
-# Where it is at time T who flies on from the last of these hits, or from the begin.
-def standing_at(begin, heading, hits, T):
-    point, since = begin, Fraction(0)
-    if hits:
-        point, heading, since = hits[-1][2], hits[-1][3], Fraction(*hits[-1][1])
-    x, y = place(point)
-    return point_at(x + heading[0] * (T - since), y + heading[1] * (T - since))
 
 
 def paper_reckoned(walls, begin, goal, row):

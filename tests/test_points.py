@@ -5,7 +5,7 @@ from fractions import Fraction
 from math import gcd
 
 from bouncewise.errors import NoPoint
-from bouncewise.points import added, as_point, divisor, point_of, sooner, spot_at, time_of
+from bouncewise.points import added, as_point, divisor, point_of, sooner, spot_at, time_between, time_of
 from checks import GREAT, check_arguments, check_refused, check_whole_numbers
 
 SMALL = range(-6, 7)
@@ -251,6 +251,15 @@ class AddedTest(unittest.TestCase):
             for other in TIMES:
                 whole = Fraction(*one) + Fraction(*other)
                 self.check(one, other, (whole.numerator, whole.denominator))
+
+
+class TimeBetweenTest(unittest.TestCase):
+    def test_small_times_all_ways(self):
+        for one in TIMES:
+            for other in TIMES:
+                told = time_between(one, other)
+                self.assertEqual(added(one, told), other)
+                check_whole_numbers(self, told, 2)
 
 
 class SpotTest(unittest.TestCase):
